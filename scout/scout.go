@@ -1,0 +1,60 @@
+// Package scout: plans for queries, better and better the longer it looks: see DOC.md.
+package scout
+
+import (
+	"scout/api"
+	"scout/query"
+	"scout/rows"
+)
+
+// Planner looks for plans.
+type Planner struct{}
+
+// Check tells whether a query is one (P3).
+func Check(cat []api.Table, q api.Query) api.Errno { return query.Check(cat, q) }
+
+// Eval answers a query in the plainest way (P4).
+func Eval(cat []api.Table, q api.Query, db [][][]int) ([][]int, api.Errno) {
+	if e := query.Check(cat, q); e != api.OK {
+		return nil, e
+	}
+	if e := query.CheckData(cat, q, db); e != api.OK {
+		return nil, e
+	}
+	return rows.Gather(answer(q, db)), api.OK
+}
+
+// Fair tells whether a plan is fair (P5).
+func Fair(cat []api.Table, q api.Query, plan []api.Node) api.Errno { return api.OK }
+
+// Exec carries out a plan (P5).
+func Exec(cat []api.Table, q api.Query, plan []api.Node, db [][][]int) ([][]int, api.Errno) {
+	return nil, api.OK
+}
+
+// Cost tells what a plan costs (P6).
+func Cost(cat []api.Table, q api.Query, plan []api.Node) (uint64, api.Errno) { return 0, api.OK }
+
+// Start begins to look for plans (P7).
+func Start(cat []api.Table, q api.Query, cap int) (*Planner, api.Errno) { return nil, api.OK }
+
+// Step does one step (P9).
+func (p *Planner) Step(pick int) int { return 0 }
+
+// Run does steps (P10).
+func (p *Planner) Run(steps int, tick int, picks []int) int { return 0 }
+
+// Status tells how the planner stands (P8).
+func (p *Planner) Status() int { return 0 }
+
+// Steps tells how many steps were done (P8).
+func (p *Planner) Steps() int { return 0 }
+
+// Best tells the best plan that was found so far, and its cost (P8).
+func (p *Planner) Best() ([]api.Node, uint64) { return nil, 0 }
+
+// Save tells a text out of which Load makes such a planner (P11).
+func (p *Planner) Save() string { return "" }
+
+// Load makes a planner out of what Save told (P11).
+func Load(saved string) (*Planner, api.Errno) { return nil, api.OK }
