@@ -22,9 +22,37 @@ type group struct {
 func Group(input Rows, keys, sums []int) Rows {
 	return func(yield func(Row) bool) {
 		for _, g := range gatherGroups(input, keys, sums) {
-			if !yield(slices.Concat(g.keys, []int{g.count}, g.sums)) {
+			if !yield(g.row()) {
 				return
 			}
+		}
+	}
+}
+
+// Stream hands out what Group does, out of rows in which those of one group
+// stand one behind the other: so each group is told when the next one comes.
+func Stream(input Rows, keys, sums []int) Rows {
+	return func(yield func(Row) bool) {
+		var current *group
+		if len(keys) == 0 {
+			// The one group is there even if no row comes.
+			current = newGroup(nil, len(sums))
+		}
+		for row := range input {
+			values := pick(row, keys)
+			if current != nil && !slices.Equal(values, current.keys) {
+				if !yield(current.row()) {
+					return
+				}
+				current = nil
+			}
+			if current == nil {
+				current = newGroup(values, len(sums))
+			}
+			current.add(row, sums)
+		}
+		if current != nil {
+			yield(current.row())
 		}
 	}
 }
@@ -54,6 +82,10 @@ func gatherGroups(input Rows, keys, sums []int) []*group {
 
 func newGroup(keys []int, sums int) *group {
 	return &group{keys: keys, sums: slices.Repeat([]int{api.Null}, sums)}
+}
+
+func (g *group) row() Row {
+	return slices.Concat(g.keys, []int{g.count}, g.sums)
 }
 
 func (g *group) add(row Row, sums []int) {

@@ -2,7 +2,7 @@
 // function over which one can range, built on those of its inputs.
 //
 // A row that an operator hands on is not written into any more, by nobody:
-// those of Scan are the database's. Those of Project and Group are new.
+// those of Scan are the database's. Those of Project, Group and Stream are new.
 package rows
 
 import (
@@ -35,21 +35,6 @@ func Filter(input Rows, keep func(Row) bool) Rows {
 		for row := range input {
 			if keep(row) && !yield(row) {
 				return
-			}
-		}
-	}
-}
-
-// Loop hands out, for each row of left, for each row of right, both together.
-func Loop(left, right Rows) Rows {
-	return func(yield func(Row) bool) {
-		// Gathered, so that what is below right is done once, not for each row of left.
-		inner := Gather(right)
-		for outer := range left {
-			for _, row := range inner {
-				if !yield(slices.Concat(outer, row)) {
-					return
-				}
 			}
 		}
 	}

@@ -23,8 +23,15 @@ func operators() map[string]func(input rows.Rows) rows.Rows {
 		"Project":    func(in rows.Rows) rows.Rows { return rows.Project(in, []int{1}) },
 		"Loop left":  func(in rows.Rows) rows.Rows { return rows.Loop(in, rows.Scan(sample())) },
 		"Loop right": func(in rows.Rows) rows.Rows { return rows.Loop(rows.Scan(sample()), in) },
-		"Sort":       func(in rows.Rows) rows.Rows { return rows.Sort(in, []int{0}) },
-		"Group":      func(in rows.Rows) rows.Rows { return rows.Group(in, []int{0}, []int{1}) },
+		"Hash left":  func(in rows.Rows) rows.Rows { return rows.Hash(in, rows.Scan(sample()), 0, 0) },
+		"Hash right": func(in rows.Rows) rows.Rows { return rows.Hash(rows.Scan(sample()), in, 0, 0) },
+		"Merge left": func(in rows.Rows) rows.Rows { return rows.Merge(in, rows.Scan(sample()), 1, 1) },
+		"Merge right": func(in rows.Rows) rows.Rows {
+			return rows.Merge(rows.Scan(sample()), in, 1, 1)
+		},
+		"Stream": func(in rows.Rows) rows.Rows { return rows.Stream(in, []int{1}, []int{0}) },
+		"Sort":   func(in rows.Rows) rows.Rows { return rows.Sort(in, []int{0}) },
+		"Group":  func(in rows.Rows) rows.Rows { return rows.Group(in, []int{0}, []int{1}) },
 	}
 }
 
@@ -42,6 +49,16 @@ func TestOperators(t *testing.T) {
 		{"Loop", rows.Loop(rows.Scan([]rows.Row{{8}, {9}}), rows.Scan([]rows.Row{{1, 2}, {3, 4}})), []rows.Row{{8, 1, 2}, {8, 3, 4}, {9, 1, 2}, {9, 3, 4}}},
 		{"Loop without left rows", rows.Loop(rows.Scan(nil), in), nil},
 		{"Loop without right rows", rows.Loop(in, rows.Scan(nil)), nil},
+		{"Hash", rows.Hash(in, rows.Scan([]rows.Row{{4, 2}, {5, 1}, {null, 2}, {6, null}}), 0, 1), []rows.Row{{2, 1, 4, 2}, {2, 1, null, 2}, {1, 3, 5, 1}, {2, 4, 4, 2}, {2, 4, null, 2}}},
+		{"Hash without left rows", rows.Hash(rows.Scan(nil), in, 0, 0), nil},
+		{"Hash without right rows", rows.Hash(in, rows.Scan(nil), 0, 0), nil},
+		{"Merge", rows.Merge(rows.Scan([]rows.Row{{null}, {1}, {2}, {2}, {4}}), rows.Scan([]rows.Row{{9, null}, {8, 0}, {7, 2}, {6, 2}, {5, 3}, {4, 4}}), 0, 1), []rows.Row{{2, 7, 2}, {2, 6, 2}, {2, 7, 2}, {2, 6, 2}, {4, 4, 4}}},
+		{"Merge without left rows", rows.Merge(rows.Scan(nil), in, 1, 1), nil},
+		{"Merge without right rows", rows.Merge(in, rows.Scan(nil), 1, 1), nil},
+		{"Stream", rows.Stream(rows.Scan([]rows.Row{{null, null}, {null, 2}, {1, 3}, {2, null}}), []int{0}, []int{1}), []rows.Row{{null, 2, 2}, {1, 1, 3}, {2, 1, null}}},
+		{"Stream without keys", rows.Stream(in, nil, []int{0}), []rows.Row{{4, 5}}},
+		{"Stream without keys and rows", rows.Stream(rows.Scan(nil), nil, []int{0}), []rows.Row{{0, null}}},
+		{"Stream without rows", rows.Stream(rows.Scan(nil), []int{0}, []int{0}), nil},
 		{"Sort", rows.Sort(in, []int{0}), []rows.Row{{null, 2}, {1, 3}, {2, 1}, {2, 4}}},
 		{"Sort by nothing", rows.Sort(in, nil), sample()},
 		{"Group", rows.Group(in, []int{0}, []int{1}), []rows.Row{{2, 2, 5}, {null, 1, 2}, {1, 1, 3}}},
@@ -96,8 +113,11 @@ func TestOneByOne(t *testing.T) {
 			break
 		}
 		want := 1
-		if name == "Sort" || name == "Group" || name == "Loop right" {
+		switch name {
+		case "Sort", "Group", "Loop right", "Hash right", "Merge right":
 			want = len(sample())
+		case "Stream":
+			want = 2 // the second row tells that the first group is over
 		}
 		if taken != want {
 			t.Errorf("%s takes %d rows for its first one, want %d", name, taken, want)
@@ -105,15 +125,23 @@ func TestOneByOne(t *testing.T) {
 	}
 }
 
-// TestInnerSideOnce: what is below the inner side of a Loop is done once.
+// TestInnerSideOnce: what is below the inner side of a join is done once.
 func TestInnerSideOnce(t *testing.T) {
 	times := 0
 	inner := func(yield func(rows.Row) bool) {
 		times++
 		rows.Scan(sample())(yield)
 	}
-	if got := rows.Gather(rows.Loop(rows.Scan(sample()), inner)); len(got) != 16 || times != 1 {
-		t.Errorf("Loop: %d rows, its inner side was gone through %d times", len(got), times)
+	outer := rows.Scan(sample())
+	for name, joined := range map[string]rows.Rows{
+		"Loop":  rows.Loop(outer, inner),
+		"Hash":  rows.Hash(outer, inner, 1, 1),
+		"Merge": rows.Merge(outer, inner, 1, 1),
+	} {
+		times = 0
+		if got := rows.Gather(joined); len(got) == 0 || times != 1 {
+			t.Errorf("%s: %d rows, its inner side was gone through %d times", name, len(got), times)
+		}
 	}
 }
 

@@ -3,6 +3,7 @@ package scout_test
 import (
 	"math"
 	"math/rand"
+	"slices"
 	"testing"
 
 	"scout/api"
@@ -69,6 +70,42 @@ func anyData(r *rand.Rand) [][][]int {
 	return db
 }
 
+func anyPlan(r *rand.Rand) []api.Node {
+	plan := make([]api.Node, r.Intn(6))
+	for i := range plan {
+		plan[i] = api.Node{Kind: anyNumber(r), L: anyNumber(r), R: anyNumber(r), Source: anyNumber(r), Clauses: anyList(r, 3), Key: anyNumber(r), Cols: anyList(r, 3)}
+	}
+	return plan
+}
+
+// wildPlan: a plan in which any number may stand anywhere.
+func wildPlan(r *rand.Rand, plan []api.Node) []api.Node {
+	plan = slices.Clone(plan)
+	wild := anyPlan(r)
+	for i := range wild {
+		n := &plan[r.Intn(len(plan))]
+		switch r.Intn(8) {
+		case 0:
+			*n = wild[i]
+		case 1:
+			n.Kind = wild[i].Kind
+		case 2:
+			n.L = wild[i].L
+		case 3:
+			n.R = wild[i].R
+		case 4:
+			n.Source = wild[i].Source
+		case 5:
+			n.Clauses = wild[i].Clauses
+		case 6:
+			n.Key = wild[i].Key
+		case 7:
+			n.Cols = wild[i].Cols
+		}
+	}
+	return plan
+}
+
 // blend: each part of a case that is in order may give way to anything.
 func blend(r *rand.Rand) ([]api.Table, api.Query, [][][]int) {
 	cat, q, db := randomCase(r)
@@ -122,6 +159,47 @@ func TestAnythingIsAnswered(t *testing.T) {
 	}
 }
 
+// TestAnyPlanIsAnswered: P1. No call panics, and with an error there is nothing else.
+func TestAnyPlanIsAnswered(t *testing.T) {
+	r := rand.New(rand.NewSource(7))
+	seen := map[api.Errno]int{}
+	for range 5000 {
+		cat, q, db, plan := plannedCase(r)
+		for range 4 {
+			c, p, d := q, plan, db
+			switch r.Intn(4) {
+			case 0:
+				_, c, d = blend(r)
+			case 1:
+				p = wildPlan(r, plan)
+			case 2:
+				p = anyPlan(r)
+			case 3:
+				d = anyData(r)
+			}
+			check := scout.Check(cat, c)
+			fair := scout.Fair(cat, c, p)
+			rows, e := scout.Exec(cat, c, p, d)
+			cost, f := scout.Cost(cat, c, p)
+			seen[e]++
+			if check != api.OK && fair != check || check == api.OK && fair != api.OK && fair != api.ErrPlan {
+				t.Fatalf("P5: Check of %+v, %+v: %d, Fair of %+v: %d", cat, c, check, p, fair)
+			}
+			if f != fair || fair != api.OK && e != fair || fair == api.OK && e != api.OK && e != api.ErrData {
+				t.Fatalf("P5, P6: %+v, %+v, %+v, %v: Fair %d, Cost %d, Exec %d", cat, c, p, d, fair, f, e)
+			}
+			if e != api.OK && rows != nil || f != api.OK && cost != 0 {
+				t.Fatalf("P1: %+v, %+v, %+v, %v: the errors %d, %d, and %v, %d", cat, c, p, d, e, f, rows, cost)
+			}
+		}
+	}
+	for _, e := range []api.Errno{api.OK, api.ErrFull, api.ErrQuery, api.ErrPlan, api.ErrData} {
+		if seen[e] < 200 {
+			t.Errorf("the answer %d came only %d times: the cases tell too little", e, seen[e])
+		}
+	}
+}
+
 // TestLongLists: P1. Lists of any length are refused, and in no time.
 func TestLongLists(t *testing.T) {
 	long := make([]int, 1<<22)
@@ -140,6 +218,22 @@ func TestLongLists(t *testing.T) {
 	}
 	if e := scout.Check(make([]api.Table, 1<<20), exampleQuery()); e != api.ErrCatalog {
 		t.Errorf("P3: Check of a long catalog: %d", e)
+	}
+	rising := make([]int, 1<<22)
+	for i := range rising {
+		rising[i] = i
+	}
+	for _, list := range [][]int{long, rising} {
+		for _, plan := range []nodes{
+			{scan(0), filter(0, list...), project(1)},
+			{scan(0), scan(1), hash(0, 1, 0, list...), project(2)},
+			{scan(0), sortBy(0, list...), project(1)},
+			{scan(0), sortBy(0, list...), stream(1)},
+		} {
+			if e := scout.Fair(exampleCatalog(), exampleQuery(), plan); e != api.ErrPlan {
+				t.Errorf("P5: Fair of a long list: %d", e)
+			}
+		}
 	}
 	for _, db := range [][][][]int{make([][][]int, 1<<20), {make([][]int, 1<<20), nil}, {{long}, nil}} {
 		if rows, e := scout.Eval(exampleCatalog(), exampleQuery(), db); e != api.ErrData || rows != nil {

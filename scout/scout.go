@@ -3,6 +3,8 @@ package scout
 
 import (
 	"scout/api"
+	"scout/exec"
+	"scout/plan"
 	"scout/query"
 	"scout/rows"
 )
@@ -25,15 +27,44 @@ func Eval(cat []api.Table, q api.Query, db [][][]int) ([][]int, api.Errno) {
 }
 
 // Fair tells whether a plan is fair (P5).
-func Fair(cat []api.Table, q api.Query, plan []api.Node) api.Errno { return api.OK }
+func Fair(cat []api.Table, q api.Query, plan []api.Node) api.Errno {
+	_, _, e := look(cat, q, plan)
+	return e
+}
 
 // Exec carries out a plan (P5).
 func Exec(cat []api.Table, q api.Query, plan []api.Node, db [][][]int) ([][]int, api.Errno) {
-	return nil, api.OK
+	facts, parts, e := look(cat, q, plan)
+	if e != api.OK {
+		return nil, e
+	}
+	if e := query.CheckData(cat, q, db); e != api.OK {
+		return nil, e
+	}
+	return rows.Gather(exec.Rows(facts, plan, parts, db)), api.OK
 }
 
 // Cost tells what a plan costs (P6).
-func Cost(cat []api.Table, q api.Query, plan []api.Node) (uint64, api.Errno) { return 0, api.OK }
+func Cost(cat []api.Table, q api.Query, plan []api.Node) (uint64, api.Errno) {
+	_, parts, e := look(cat, q, plan)
+	if e != api.OK {
+		return 0, e
+	}
+	return parts[len(parts)-1].Cost, api.OK
+}
+
+// look checks a plan, and tells what is known of its query and of its nodes.
+func look(cat []api.Table, q api.Query, nodes []api.Node) (query.Facts, []plan.Part, api.Errno) {
+	if e := query.Check(cat, q); e != api.OK {
+		return query.Facts{}, nil, e
+	}
+	facts := query.FactsOf(cat, q)
+	parts, fair := plan.Look(facts, nodes)
+	if !fair {
+		return query.Facts{}, nil, api.ErrPlan
+	}
+	return facts, parts, api.OK
+}
 
 // Start begins to look for plans (P7).
 func Start(cat []api.Table, q api.Query, cap int) (*Planner, api.Errno) { return nil, api.OK }
