@@ -34,7 +34,8 @@ func Look(f query.Facts, nodes []api.Node) ([]Part, bool) {
 		}
 		parts = append(parts, partOf(f, n, inputs))
 	}
-	if !endsWell(f.Query, nodes, parts) {
+	last := nodes[len(nodes)-1]
+	if !makesOutput(last.Kind) || !EndsWell(f.Query, last.Kind, parts[last.L].Order) {
 		return nil, false
 	}
 	return parts, true
@@ -103,7 +104,7 @@ func fits(f query.Facts, n api.Node, inputs []Part) bool {
 	case api.Group:
 		return f.Query.Group && isWhole(f, inputs[0])
 	case api.Stream:
-		return f.Query.Group && isWhole(f, inputs[0]) && begins(inputs[0].Order, f.Query.Keys)
+		return f.Query.Group && isWhole(f, inputs[0]) && Begins(inputs[0].Order, f.Query.Keys)
 	case api.Project:
 		return !f.Query.Group && isWhole(f, inputs[0])
 	case api.Arrange:
@@ -136,7 +137,7 @@ func mergeFits(f query.Facts, n api.Node, left, right Part) bool {
 	if !ok || !joinFits(f, n, left, right) {
 		return false
 	}
-	return begins(left.Order, []int{leftKey}) && begins(right.Order, []int{rightKey})
+	return Begins(left.Order, []int{leftKey}) && Begins(right.Order, []int{rightKey})
 }
 
 // KeyColumns tells the key columns of a Hash or Merge, the left side's first,
@@ -179,29 +180,40 @@ func isWhole(f query.Facts, p Part) bool {
 	return p.Sources == f.Sources && p.Clauses == f.Clauses
 }
 
-func begins(list, start []int) bool {
+// Begins tells whether a list begins with another one.
+func Begins(list, start []int) bool {
 	return len(list) >= len(start) && slices.Equal(list[:len(start)], start)
 }
 
-// endsWell tells whether the last node's rows are those asked for, in the
-// order asked for.
-func endsWell(q api.Query, nodes []api.Node, parts []Part) bool {
-	last := nodes[len(nodes)-1]
-	if !makesOutput(last.Kind) {
-		return false
-	}
+// EndsWell tells whether a plan may end in this kind, one of those that make
+// output, if the rows that go into it are in this order.
+func EndsWell(q api.Query, kind int, order []int) bool {
 	if len(q.Order) == 0 {
 		return true
 	}
-	switch last.Kind {
+	switch kind {
 	case api.Arrange:
 		return true
 	case api.Project:
-		return begins(parts[last.L].Order, columnsOfOrder(q))
+		return Begins(order, columnsOfOrder(q))
 	case api.Stream:
 		return len(q.Order) <= len(q.Keys) && countsUp(q.Order)
 	}
 	return false
+}
+
+// EndOrder lists the columns by which rows must be sorted so that a Stream
+// may take them, or that a Project needs no Arrange behind it. It is empty, if
+// there is no need to sort them, or no way.
+func EndOrder(q api.Query) []int {
+	if q.Group {
+		return q.Keys
+	}
+	columns := columnsOfOrder(q)
+	if !query.AllDifferent(columns) {
+		return nil
+	}
+	return columns
 }
 
 // columnsOfOrder lists the columns that stand in the places of Order.

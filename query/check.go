@@ -60,7 +60,7 @@ func isQuery(cat []api.Table, q api.Query) bool {
 	if !clausesFit(q.Where, columns) || !outputFits(q, columns) {
 		return false
 	}
-	return allBelow(q.Order, outputWidth(q)) && allDifferent(q.Order)
+	return allBelow(q.Order, outputWidth(q)) && AllDifferent(q.Order)
 }
 
 func countColumns(cat []api.Table, from []int) int {
@@ -108,7 +108,7 @@ func outputFits(q api.Query, columns int) bool {
 	if len(q.Select) > 0 || !allBelow(q.Sums, columns) {
 		return false
 	}
-	return allBelow(q.Keys, columns) && allDifferent(q.Keys)
+	return allBelow(q.Keys, columns) && AllDifferent(q.Keys)
 }
 
 // outputWidth is how many places the rows that come out have; between a
@@ -128,7 +128,8 @@ func allBelow(list []int, bound int) bool {
 	return !slices.ContainsFunc(list, func(n int) bool { return !isBelow(n, bound) })
 }
 
-func allDifferent(list []int) bool {
+// AllDifferent tells whether no number stands in the list twice.
+func AllDifferent(list []int) bool {
 	for i, n := range list {
 		if slices.Contains(list[:i], n) {
 			return false

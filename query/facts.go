@@ -63,6 +63,23 @@ func (f Facts) SourcesOf(columns ...int) Set {
 	return sources
 }
 
+// Within is the set of the clauses that concern none but these sources.
+func (f Facts) Within(sources Set) Set {
+	var clauses Set
+	for number, concerned := range f.Concerns {
+		if sources.Covers(concerned) {
+			clauses = Union(clauses, SetOf(number))
+		}
+	}
+	return clauses
+}
+
+// Between is the set of the clauses that concern sources of both sets, and no
+// others.
+func (f Facts) Between(left, right Set) Set {
+	return f.Within(Union(left, right)) &^ Union(f.Within(left), f.Within(right))
+}
+
 func (f Facts) concerns(clause api.Clause) Set {
 	var sources Set
 	for _, c := range clause.Alts {

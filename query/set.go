@@ -1,5 +1,10 @@
 package query
 
+import (
+	"math/bits"
+	"slices"
+)
+
 // Set is a set of small numbers: those of sources, or those of clauses.
 type Set uint
 
@@ -32,6 +37,12 @@ func (s Set) Covers(other Set) bool { return other&^s == 0 }
 
 // Meets tells whether something is in both sets.
 func (s Set) Meets(other Set) bool { return s&other != 0 }
+
+// Count tells how many numbers are in the set.
+func (s Set) Count() int { return bits.OnesCount(uint(s)) }
+
+// List lists the numbers of the set, the least first.
+func (s Set) List() []int { return slices.Collect(s.Rising) }
 
 // Rising hands out the numbers of the set, the least first.
 func (s Set) Rising(yield func(n int) bool) {

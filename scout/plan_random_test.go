@@ -117,6 +117,13 @@ func randomPlan(r *rand.Rand, cat []api.Table, q api.Query) []api.Node {
 		}
 		top = m.dressed(m.lay(api.Node{Kind: api.Filter, L: top, Clauses: m.some([]int{0, 1, 2, 3, 4}, missing...)}))
 	}
+	m.end(top)
+	return m.nodes
+}
+
+// end: what is put out of a node that stands for all, and nodes that change places.
+func (m *maker) end(top int) {
+	q, r := m.q, m.r
 	switch {
 	case q.Group && r.Intn(2) == 0:
 		top = m.lay(api.Node{Kind: api.Stream, L: m.sorted(top, q.Keys...)})
@@ -133,7 +140,6 @@ func randomPlan(r *rand.Rand, cat []api.Table, q api.Query) []api.Node {
 		top = m.lay(api.Node{Kind: api.Arrange, L: top})
 	}
 	mixed(r, m.nodes)
-	return m.nodes
 }
 
 // mixed: neighbours change places, where neither has need of the other.

@@ -7,10 +7,13 @@ import (
 	"scout/plan"
 	"scout/query"
 	"scout/rows"
+	"scout/search"
 )
 
 // Planner looks for plans.
-type Planner struct{}
+type Planner struct {
+	search *search.Search
+}
 
 // Check tells whether a query is one (P3).
 func Check(cat []api.Table, q api.Query) api.Errno { return query.Check(cat, q) }
@@ -67,22 +70,31 @@ func look(cat []api.Table, q api.Query, nodes []api.Node) (query.Facts, []plan.P
 }
 
 // Start begins to look for plans (P7).
-func Start(cat []api.Table, q api.Query, cap int) (*Planner, api.Errno) { return nil, api.OK }
+func Start(cat []api.Table, q api.Query, cap int) (*Planner, api.Errno) {
+	if e := query.Check(cat, q); e != api.OK {
+		return nil, e
+	}
+	if cap < 1 || cap > api.MaxCap {
+		return nil, api.ErrCap
+	}
+	facts := query.FactsOf(cat, query.Copied(q))
+	return &Planner{search: search.Begin(facts, cap)}, api.OK
+}
 
 // Step does one step (P9).
-func (p *Planner) Step(pick int) int { return 0 }
+func (p *Planner) Step(pick int) int { return p.search.Step(pick) }
 
 // Run does steps (P10).
-func (p *Planner) Run(steps int, tick int, picks []int) int { return 0 }
+func (p *Planner) Run(steps int, tick int, picks []int) int { return p.search.Run(steps, tick, picks) }
 
 // Status tells how the planner stands (P8).
-func (p *Planner) Status() int { return 0 }
+func (p *Planner) Status() int { return p.search.Status() }
 
 // Steps tells how many steps were done (P8).
-func (p *Planner) Steps() int { return 0 }
+func (p *Planner) Steps() int { return p.search.Steps() }
 
 // Best tells the best plan that was found so far, and its cost (P8).
-func (p *Planner) Best() ([]api.Node, uint64) { return nil, 0 }
+func (p *Planner) Best() ([]api.Node, uint64) { return p.search.Best() }
 
 // Save tells a text out of which Load makes such a planner (P11).
 func (p *Planner) Save() string { return "" }
