@@ -118,7 +118,7 @@ func TestListsOfANodeShareNothing(t *testing.T) {
 	}
 }
 
-// TestAskingChangesNothing: P8. Best, Status and Steps, ever so often.
+// TestAskingChangesNothing: P8. Best, Status, Steps and Save, ever so often.
 func TestAskingChangesNothing(t *testing.T) {
 	r := rand.New(rand.NewSource(43))
 	for k := range 200 {
@@ -129,6 +129,7 @@ func TestAskingChangesNothing(t *testing.T) {
 				p.Best()
 				p.Status()
 				p.Steps()
+				p.Save()
 			}
 			pick := r.Int()
 			p.Step(pick)

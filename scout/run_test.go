@@ -15,7 +15,7 @@ func samePlanners(t *testing.T, what string, a, b *scout.Planner) {
 	t.Helper()
 	x, m := a.Best()
 	y, n := b.Best()
-	if a.Status() != b.Status() || a.Steps() != b.Steps() || m != n || !samePlan(x, y) {
+	if a.Status() != b.Status() || a.Steps() != b.Steps() || m != n || !samePlan(x, y) || a.Save() != b.Save() {
 		t.Fatalf("%s: status %d, %d steps, %d, %+v; the other one: %d, %d, %d, %+v", what, a.Status(), a.Steps(), m, x, b.Status(), b.Steps(), n, y)
 	}
 }

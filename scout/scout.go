@@ -2,16 +2,22 @@
 package scout
 
 import (
+	"slices"
+
 	"scout/api"
 	"scout/exec"
+	"scout/journal"
 	"scout/plan"
 	"scout/query"
 	"scout/rows"
 	"scout/search"
 )
 
-// Planner looks for plans.
+// Planner looks for plans. What it was started with is kept for Save.
 type Planner struct {
+	cat    []api.Table
+	query  api.Query
+	cap    int
 	search *search.Search
 }
 
@@ -77,8 +83,9 @@ func Start(cat []api.Table, q api.Query, cap int) (*Planner, api.Errno) {
 	if cap < 1 || cap > api.MaxCap {
 		return nil, api.ErrCap
 	}
-	facts := query.FactsOf(cat, query.Copied(q))
-	return &Planner{search: search.Begin(facts, cap)}, api.OK
+	p := &Planner{cat: slices.Clone(cat), query: query.Copied(q), cap: cap}
+	p.search = search.Begin(query.FactsOf(p.cat, p.query), cap)
+	return p, api.OK
 }
 
 // Step does one step (P9).
@@ -97,7 +104,35 @@ func (p *Planner) Steps() int { return p.search.Steps() }
 func (p *Planner) Best() ([]api.Node, uint64) { return p.search.Best() }
 
 // Save tells a text out of which Load makes such a planner (P11).
-func (p *Planner) Save() string { return "" }
+func (p *Planner) Save() string {
+	return journal.Journal{
+		Catalog: p.cat,
+		Query:   p.query,
+		Cap:     p.cap,
+		Picks:   p.search.Picks(),
+		Status:  p.search.Status(),
+	}.Text()
+}
 
-// Load makes a planner out of what Save told (P11).
-func Load(saved string) (*Planner, api.Errno) { return nil, api.OK }
+// Load makes a planner out of what Save told (P11). Any other text is refused:
+// a planner that came of it would not tell it again.
+func Load(saved string) (*Planner, api.Errno) {
+	p, e := follow(journal.Read(saved))
+	if e != api.OK || p.Save() != saved {
+		return nil, api.ErrSaved
+	}
+	return p, api.OK
+}
+
+// follow goes the way of a journal anew, as far as there is one.
+func follow(j journal.Journal) (*Planner, api.Errno) {
+	p, e := Start(j.Catalog, j.Query, j.Cap)
+	if e != api.OK {
+		return nil, e
+	}
+	p.Run(len(j.Picks), -1, j.Picks)
+	if j.Status == api.Cancelled {
+		p.Run(1, 0, nil)
+	}
+	return p, api.OK
+}

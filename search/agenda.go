@@ -46,10 +46,14 @@ func (a *agenda) add(tasks ...task) {
 	}
 }
 
-// take takes the picked task off; any number picks one.
-func (a *agenda) take(pick int) task {
-	count := len(*a)
-	place := (pick%count + count) % count // what is left may be below 0
+// place tells the place of the picked task; any number picks one.
+func (a agenda) place(pick int) int {
+	count := len(a)
+	return (pick%count + count) % count // what is left may be below 0
+}
+
+// take takes the task off that stands at a place.
+func (a *agenda) take(place int) task {
 	t := (*a)[place]
 	*a = slices.Delete(*a, place, place+1)
 	return t

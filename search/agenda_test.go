@@ -22,7 +22,7 @@ func TestTake(t *testing.T) {
 		{math.MaxInt, 2}, {math.MinInt, 2}, // 9223372036854775807 is 2 more than a multiple of 5, -9223372036854775808 too
 	} {
 		a := full()
-		if got := a.take(c.pick); got != order[c.place] {
+		if got := a.take(a.place(c.pick)); got != order[c.place] {
 			t.Errorf("the pick %d takes %v, want %v", c.pick, got, order[c.place])
 		}
 		if rest := slices.Delete(slices.Clone(order), c.place, c.place+1); !slices.Equal(a, rest) {

@@ -3,6 +3,8 @@
 package search
 
 import (
+	"slices"
+
 	"scout/api"
 	"scout/plan"
 	"scout/query"
@@ -18,7 +20,7 @@ type Search struct {
 	agenda agenda
 	cut    bool // there is no room for all pieces that may be of use
 	best   *plan.Tree
-	steps  int
+	picks  []int // of each step that was done the place on the agenda
 	status int
 }
 
@@ -41,7 +43,10 @@ func Begin(f query.Facts, room int) *Search {
 func (s *Search) Status() int { return s.status }
 
 // Steps tells how many steps were done.
-func (s *Search) Steps() int { return s.steps }
+func (s *Search) Steps() int { return len(s.picks) }
+
+// Picks lists picks by which another search would do the same steps.
+func (s *Search) Picks() []int { return slices.Clone(s.picks) }
 
 // Best tells the best plan that was found so far, and its cost.
 func (s *Search) Best() ([]api.Node, uint64) { return s.best.Nodes(), s.best.Cost }
@@ -80,8 +85,9 @@ func (s *Search) step(cancel <-chan struct{}, pick int) {
 	case <-cancel:
 		s.status = api.Cancelled
 	default:
-		s.do(s.agenda.take(pick))
-		s.steps++
+		place := s.agenda.place(pick)
+		s.picks = append(s.picks, place)
+		s.do(s.agenda.take(place))
 		s.settle()
 	}
 }
